@@ -1,0 +1,1 @@
+"""Manrent: land held of lords of lords, and whose side each man is on."""
