@@ -2,6 +2,9 @@
 
 from manrent.errors import NoForm
 
+# The crown, as a man and as an estate.
+CROWN = ""
+
 LONGEST_NAME = 8
 
 # What stands behind each first word. The order of the words is told, too:
@@ -16,8 +19,8 @@ FORMS = {
     "death": ("day", "name"),
 }
 
-# The least and the greatest number of each sort.
-BOUNDS = {"day": (0, 9999), "acres": (1, 9999), "service": (0, 9999)}
+# The least and the greatest number of each sort; bears is what an acre bears a day.
+BOUNDS = {"day": (0, 9999), "acres": (1, 9999), "service": (0, 9999), "bears": (0, 99)}
 
 # Rows that name two men who must not be the same one.
 OF_TWO_MEN = ("heir", "liege")
@@ -52,11 +55,11 @@ def is_well_made(row):
 
 
 def fits(sort, piece):
-    """True where a part of a row is as its form calls it."""
+    """True where a piece, of a row or of what is told of a land, is as its sort asks."""
     if sort in BOUNDS:
         least, greatest = BOUNDS[sort]
         return least <= piece <= greatest
-    if sort == "name or crown" and piece == "":
+    if sort == "name or crown" and piece == CROWN:
         return True
     return is_name(piece)
 

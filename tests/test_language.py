@@ -22,6 +22,13 @@ FORBIDDEN_WORDS = set("""
 type typing typing_extensions enum Enum IntEnum StrEnum Flag IntFlag Generic Protocol ABC ABCMeta namedtuple
 NamedTuple TypedDict TYPE_CHECKING abstractmethod
 """.split())
+OWN_KINDS = (str, int, list, dict, set, bytes, tuple)
+METHODS_LIKE_PYTHONS_OWN = set("""
+append clear copy count endswith extend find get index insert isalnum isalpha isdigit islower isspace isupper items
+join keys ljust lower lstrip partition pop remove replace reverse rfind rjust rpartition rsplit rstrip setdefault
+split splitlines startswith strip update upper values zfill bit_length add discard
+""".split())
+VALUES_LIKE_PYTHONS_OWN = set("count index title find get join lower upper split strip copy add".split())
 METHODS = {"__init__", "__eq__", "__repr__", "__str__", "__len__"}
 
 
@@ -97,6 +104,62 @@ class Language(unittest.TestCase):
             with self.subTest(place=place, name=node.arg):
                 self.assertFalse(node.arg.startswith("_"))
                 self.assertFalse(hasattr(builtins, node.arg))
+
+
+    def test_methods_and_values(self):
+        methods, values = set(), set()
+        for place, node in nodes(ast.ClassDef):
+            with self.subTest(place=place):
+                names = [one.name for one in node.body if isinstance(one, ast.FunctionDef)]
+                self.assertEqual(len(names), len(set(names)))
+                self.assertLessEqual({type(one) for one in node.body[1:]}, {ast.FunctionDef})
+                self.assertLessEqual(len(node.bases), 1)
+                methods |= set(names) - METHODS
+        for place, node in nodes(ast.Attribute):
+            if isinstance(node.ctx, ast.Store):
+                values.add(node.attr)
+        self.assertEqual(methods & values, set())
+        own = {name for kind in OWN_KINDS for name in dir(kind)}
+        self.assertLessEqual(methods & own, METHODS_LIKE_PYTHONS_OWN)
+        self.assertLessEqual(values & own, VALUES_LIKE_PYTHONS_OWN)
+
+    def test_no_two_files_draw_from_one_another(self):
+        drawn = {name: [node.module.split(".")[-1] + ".py" for node in ast.walk(tree)
+                        if isinstance(node, ast.ImportFrom)] for name, tree in trees()}
+        while drawn:
+            free = [name for name in drawn if not set(drawn[name]) & set(drawn)]
+            self.assertNotEqual(free, [], sorted(drawn))
+            for name in free:
+                del drawn[name]
+
+    def test_names_of_a_top_are_given_once(self):
+        for name, tree in trees():
+            given = []
+            for node in tree.body:
+                if isinstance(node, ast.ImportFrom):
+                    given += [alias.asname or alias.name for alias in node.names]
+                elif isinstance(node, ast.Assign):
+                    given += [target.id for target in node.targets]
+                elif isinstance(node, (ast.FunctionDef, ast.ClassDef)):
+                    given.append(node.name)
+                else:
+                    self.assertIsInstance(node, ast.Expr)
+            with self.subTest(name=name):
+                self.assertEqual(len(given), len(set(given)))
+                taken = {alias.asname or alias.name for node in tree.body if isinstance(node, ast.ImportFrom)
+                         for alias in node.names}
+                taken |= {node.name for node in tree.body if isinstance(node, ast.ClassDef)}
+                inner = {node.arg for node in ast.walk(tree) if isinstance(node, ast.arg)}
+                inner |= {node.id for node in ast.walk(tree)
+                          if isinstance(node, ast.Name) and isinstance(node.ctx, ast.Store)}
+                self.assertEqual(inner & taken, set())
+
+    def test_is_stands_beside_written_words_alone(self):
+        for place, node in nodes(ast.Compare):
+            for sign, right in zip(node.ops, node.comparators):
+                if isinstance(sign, (ast.Is, ast.IsNot)):
+                    with self.subTest(place=place):
+                        self.assertIn(getattr(right, "value", "none"), (None, True, False))
 
 
 if __name__ == "__main__":
