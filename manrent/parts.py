@@ -27,10 +27,12 @@ def scaled(a, many):
 
 def total(row):
     """The sum of a list of fractions."""
-    whole = (0, 1)
-    for piece in row:
-        whole = plus(whole, piece)
-    return whole
+    # Over one common bottom the tops are summed as whole numbers, and lowest
+    # terms are sought once, however many fractions there are.
+    bottom = 1
+    for top, own in row:
+        bottom = bottom // common_measure(bottom, own) * own
+    return part(sum([top * (bottom // own) for top, own in row]), bottom)
 
 
 def common_measure(a, b):

@@ -1,6 +1,7 @@
-"""A slow and plain telling of the land and of the judging of charters, to hold the program against."""
+"""A slow and plain telling of the land, the charters, the dues and the quarrels, to hold the program against."""
 
 from fractions import Fraction
+from itertools import combinations
 
 KINDS = ["heir", "grant", "part", "convey", "liege", "surrender", "death"]
 
@@ -186,3 +187,128 @@ def some_rows(dice, many, estates, men, last_day):
         if kind not in ("heir", "liege") or row[2] != row[3]:
             rows[row] = True
     return list(rows)
+
+
+class SlowDays:
+    """What is due, day by day, each day's land judged from the beginning."""
+
+    def __init__(self, acres, coins, rows, last):
+        self.coins = coins
+        self.lands = [SlowCourt(acres, rows, day).land.all for day in range(last + 1)]
+
+    def given(self, start, end):
+        """What is given for each estate on each day: (estate, giver, taker, service)."""
+        return [(name, estate["holder"], land[estate["lord"]]["holder"], estate["service"])
+                for land in self.lands[start:end] for name, estate in land.items() if name != ""]
+
+    def owed(self, estate, start, end):
+        return sum((row[3] for row in self.given(start, end) if row[0] == estate), Fraction(0))
+
+    def gives(self, man, start, end):
+        return sum((row[3] for row in self.given(start, end) if row[1] == man), Fraction(0))
+
+    def gets(self, man, start, end):
+        return sum((row[3] for row in self.given(start, end) if row[2] == man), Fraction(0))
+
+    def bears(self, man, start, end):
+        return Fraction(sum(estate["own"] * self.coins for land in self.lands[start:end] for estate in land.values()
+                            if estate["holder"] == man))
+
+    def keeps(self, man, start, end):
+        return self.bears(man, start, end) + self.gets(man, start, end) - self.gives(man, start, end)
+
+    def passes(self, start, end):
+        sums = {}
+        for name, giver, taker, service in self.given(start, end):
+            sums[giver, taker] = sums.get((giver, taker), 0) + service
+        return sorted((giver, taker, pair(many)) for (giver, taker), many in sums.items() if many > 0)
+
+
+class SlowQuarrels:
+    """The bonds of a day, and the sidings gone through one by one."""
+
+    def __init__(self, acres, rows, day):
+        court = SlowCourt(acres, rows, day)
+        land = court.land
+        self.folk = sorted({""} | {estate["holder"] for estate in land.all.values()})
+        self.bonds = []
+        for man in self.folk:
+            for lord in self.folk:
+                many = sum(land.breadth(name) for name, estate in land.all.items() if name != ""
+                           and estate["holder"] == man != lord == land.all[estate["lord"]]["holder"])
+                if many:
+                    self.bonds.append((man, lord, many, court.lieges.get(man) == lord))
+        self.great = 1 + sum(bond[2] for bond in self.bonds if not bond[3])
+
+    def weight(self, one, other):
+        return sum(self.great if bond[3] else bond[2] for bond in self.bonds if {one, other} == set(bond[:2]))
+
+    def breaks(self, siding):
+        broken = [bond for bond in self.bonds if (bond[0] in siding) ^ (bond[1] in siding)]
+        return (sum(1 for bond in broken if bond[3]), sum(bond[2] for bond in broken if not bond[3]))
+
+    def weighs(self, siding):
+        lieges, acres = self.breaks(siding)
+        return lieges * self.great + acres
+
+    def sidings(self, one, other):
+        rest = [man for man in self.folk if man not in (one, other)]
+        return [sorted([one] + list(some)) for many in range(len(rest) + 1) for some in combinations(rest, many)]
+
+    def least(self, one, other, man=None, goes=None):
+        """The least sidings, of those where the man goes as told, the fewest people first."""
+        row = [siding for siding in self.sidings(one, other) if man is None or (man in siding) == goes]
+        fewest = min((self.breaks(siding) for siding in row), default=None)
+        return [siding for siding in row if self.breaks(siding) == fewest]
+
+    def wrongs(self, row, one, other):
+        """The words of point 13 that streams go against."""
+        goes_out = {man: sum(many for giver, taker, many in row if giver == man) for man in self.folk}
+        comes = {man: sum(many for giver, taker, many in row if taker == man) for man in self.folk}
+        pairs = [frozenset(triple[:2]) for triple in row]
+        found = {
+            "at least 1": all(triple[2] >= 1 for triple in row),
+            "of the folk": all(man in self.folk for triple in row for man in triple[:2]),
+            "to another one": all(triple[0] != triple[1] for triple in row),
+            "one triple between two": len(pairs) == len(set(pairs)),
+            "no more than the weights": all(triple[2] <= self.weight(*triple[:2]) for triple in row),
+            "as much out as in": all(goes_out[man] == comes[man] for man in self.folk if man not in (one, other)),
+            "nothing to the one": comes[one] == 0,
+            "nothing from the other": goes_out[other] == 0,
+        }
+        return [word for word, good in found.items() if not good]
+
+
+def some_manors(dice, acres, men, estates, lieges):
+    """Rows by which each estate is granted to one of the men under one that is there already, and lieges chosen."""
+    rows, own = [], {"": acres}
+    for day, new in enumerate(estates):
+        lord = dice.of([name for name, many in own.items() if many > 1])
+        many = 1 + dice.below(max(1, own[lord] // 2))
+        own[lord] -= many
+        own[new] = many
+        rows.append(("grant", day, lord, new, dice.of(men), many, dice.below(50)))
+    for day in range(lieges):
+        man, lord = dice.of(men), dice.of(men + [""])
+        if man != lord:
+            rows.append(("liege", len(estates) + day, man, lord))
+    return rows
+
+
+def even_manors(dice, men, more, lieges):
+    """Rows by which all men hold alike of the crown, and some hold alike of others: many sidings are least at once."""
+    rows = [("grant", 0, "", "of" + man, man, 100, 1) for man in men]
+    rows += [("grant", 1, "of" + dice.of(men), "more" + new, dice.of(men), 10, 1) for new in "abcdefghij"[:more]]
+    rows += [("liege", 2, man, lord) for man in men[:lieges] for lord in [dice.of(men + ["", ""])] if man != lord]
+    return rows
+
+
+def lively_rows(dice, acres, men):
+    """Rows of all kinds, no two equal, most of which stand: the estates are a to l, the days 0 to 12."""
+    rows = some_manors(dice, acres, men, list("abcdefgh"), 3)
+    rows += [("part", 3 + dice.below(9), dice.of("abcdefgh"), new, dice.of(men), 1 + dice.below(3)) for new in "ijkl"]
+    rows += [("convey", 2 + dice.below(11), dice.of("abcdefghij"), dice.of(men)) for many in range(4)]
+    rows += [("surrender", 4 + dice.below(9), dice.of("abcdefghij")) for many in range(2)]
+    rows += [("heir", dice.below(9), men[at - 1], man) for at, man in enumerate(men) if dice.below(2)]
+    rows += [("death", 6 + dice.below(7), dice.of(men))]
+    return list(dict.fromkeys(rows))
