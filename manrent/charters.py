@@ -19,8 +19,19 @@ FORMS = {
     "death": ("day", "name"),
 }
 
-# The least and the greatest number of each sort; bears is what an acre bears a day.
-BOUNDS = {"day": (0, 9999), "acres": (1, 9999), "service": (0, 9999), "bears": (0, 99)}
+# The least and the greatest number of each sort.
+BOUNDS = {
+    "day": (0, 9999),
+    "acres": (1, 9999),
+    "service": (0, 9999),
+    # What an acre bears a day.
+    "bears": (0, 99),
+    # Where a stretch of days starts or ends.
+    "edge": (0, 10000),
+    # A number that is asked for, and one that a row may have.
+    "number": (0, 999999),
+    "entry": (1, 999999),
+}
 
 # Rows that name two men who must not be the same one.
 OF_TWO_MEN = ("heir", "liege")

@@ -2,11 +2,11 @@ import itertools
 import unittest
 
 from manrent.court import Court
-from manrent.errors import LandError, NoEntry, NoEstate, NoForm, NoLand, NoMan, NoQuarrel, NoText, NothingThere, Twice
+from manrent.errors import NoEntry, NoEstate, NoLand
 from manrent.land import Land
 from oracle import Dice, SlowCourt, picture, slow_spells, some_rows
+from refusing import Refusing
 
-ALL = (NoForm, NoEntry, Twice, NothingThere, NoEstate, NoMan, NoQuarrel, NoLand, NoText)
 ANN_AND_BOB = [
     ("grant", 1, "", "hill", "ann", 60, 12),
     ("grant", 1, "", "moor", "bob", 30, 4),
@@ -14,13 +14,7 @@ ANN_AND_BOB = [
 ]
 
 
-class Courts(unittest.TestCase):
-    def refused(self, kind, deed, *things):
-        with self.assertRaises(LandError) as held:
-            deed(*things)
-        for other in ALL:
-            self.assertEqual(isinstance(held.exception, other), other is kind)
-
+class Courts(Refusing):
     def told(self, rows, row):
         """The word of a row beside others."""
         return Court(100, 1, rows + [row]).verdict(row)

@@ -1,10 +1,10 @@
 import unittest
 
-from manrent.errors import LandError, NoEntry, NoEstate, NoForm, NoLand, NoMan, NoQuarrel, NoText, NothingThere, Twice
+from manrent.errors import NoEstate, NoLand
 from manrent.land import Land
 from oracle import Dice, SlowLand, picture
+from refusing import Refusing
 
-ALL = (NoForm, NoEntry, Twice, NothingThere, NoEstate, NoMan, NoQuarrel, NoLand, NoText)
 QUESTIONS = ("holder", "lord", "own", "breadth", "service", "chain", "under")
 
 
@@ -19,16 +19,7 @@ def some_land():
     return land
 
 
-class Refusals(unittest.TestCase):
-    def refused(self, kind, deed, *things):
-        with self.assertRaises(LandError) as held:
-            deed(*things)
-        self.assertIsInstance(held.exception, kind)
-        for other in ALL:
-            self.assertEqual(isinstance(held.exception, other), other is kind)
-
-
-class Making(Refusals):
+class Making(Refusing):
     def test_acres_out_of_bounds(self):
         for acres in (0, -1, -9999, 10000, 123456, 10 ** 5000):
             self.refused(NoLand, Land, acres)
@@ -51,7 +42,7 @@ class Making(Refusals):
         self.assertIs(land.there("hill"), False)
 
 
-class Questions(Refusals):
+class Questions(Refusing):
     def test_grants_out_of_the_crowns_estate_and_out_of_others(self):
         land = Land(100)
         self.assertIsNone(land.grant("", "hill", "ann", 60, 12))

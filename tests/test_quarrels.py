@@ -3,11 +3,11 @@ import unittest
 
 from manrent.bonds import great
 from manrent.court import Court
-from manrent.errors import LandError, NoEntry, NoEstate, NoForm, NoLand, NoMan, NoQuarrel, NoText, NothingThere, Twice
+from manrent.errors import NoMan, NoQuarrel
 from manrent.quarrels import breaks, far, held_near, near, side, streams
 from oracle import Dice, SlowQuarrels, even_manors, lively_rows, some_manors
+from refusing import Refusing
 
-ALL = (NoForm, NoEntry, Twice, NothingThere, NoEstate, NoMan, NoQuarrel, NoLand, NoText)
 MEN = ["ann", "bob", "cat", "dan", "eve", "fay"]
 # Bob is bound to ann by 20 acres and to the crown by 30, cat to bob by 5.
 ROWS = [
@@ -22,15 +22,7 @@ def pairs(folk):
     return [(one, other) for one in folk for other in folk if one != other]
 
 
-class Quarrels(unittest.TestCase):
-    def refused(self, kind, deed, *things):
-        with self.assertRaises(LandError) as held:
-            deed(*things)
-        for other in ALL:
-            self.assertEqual(isinstance(held.exception, other), other is kind)
-
-
-class Breaks(Quarrels):
+class Breaks(unittest.TestCase):
     def setUp(self):
         self.court = Court(100, 1, ROWS + [("liege", 5, "cat", "bob")])
 
@@ -66,7 +58,7 @@ class Breaks(Quarrels):
         self.assertEqual([type(piece) for piece in told], [int, int])
 
 
-class Sides(Quarrels):
+class Sides(unittest.TestCase):
     def test_by_acres(self):
         court = Court(100, 1, list(ROWS))
         self.assertEqual(near(court, 4, "ann", "bob"), ["", "ann"])
@@ -137,7 +129,7 @@ class Sides(Quarrels):
                              slow.weighs(slow.least(one, other)[0]))
 
 
-class Held(Quarrels):
+class Held(unittest.TestCase):
     def test_none(self):
         court = Court(100, 1, list(ROWS))
         self.assertIsNone(held_near(court, 4, "ann", "bob", "ann", False))
@@ -153,7 +145,7 @@ class Held(Quarrels):
         self.assertEqual(held_near(court, 5, "ann", "bob", "cat", False), ["", "ann"])
 
 
-class Refusals(Quarrels):
+class Refusals(Refusing):
     def test_no_man(self):
         # Cat holds nothing before day 3, dan nothing at all.
         court = Court(100, 1, ROWS + [("death", 9, "cat")])
@@ -197,7 +189,7 @@ class Refusals(Quarrels):
         self.assertEqual([near(court, 4, "ann", "bob"), streams(court, 4, "ann", "bob")], first)
 
 
-class ManyQuarrels(Quarrels):
+class ManyQuarrels(unittest.TestCase):
     """Against all sidings gone through one by one."""
 
     def cases(self, seeds):
@@ -292,7 +284,7 @@ class ManyQuarrels(Quarrels):
                 self.assertGreaterEqual(slow.weighs(siding), worth)
 
 
-class Kinds(Quarrels):
+class Kinds(unittest.TestCase):
     def test_lists_and_tuples(self):
         court = Court(100, 1, list(ROWS))
         for told in (near(court, 4, "ann", "bob"), far(court, 4, "ann", "bob"), held_near(court, 4, "ann", "bob", "", True)):
