@@ -234,10 +234,11 @@ class SlowQuarrels:
         self.bonds = []
         for man in self.folk:
             for lord in self.folk:
-                many = sum(land.breadth(name) for name, estate in land.all.items() if name != ""
-                           and estate["holder"] == man != lord == land.all[estate["lord"]]["holder"])
+                # An estate may have no acres: all were parted off.
+                many = [land.breadth(name) for name, estate in land.all.items() if name != ""
+                        and estate["holder"] == man != lord == land.all[estate["lord"]]["holder"]]
                 if many:
-                    self.bonds.append((man, lord, many, court.lieges.get(man) == lord))
+                    self.bonds.append((man, lord, sum(many), court.lieges.get(man) == lord))
         self.great = 1 + sum(bond[2] for bond in self.bonds if not bond[3])
 
     def weight(self, one, other):

@@ -76,6 +76,16 @@ class Bonds(unittest.TestCase):
         self.assertEqual(weight(court, 3, "cat", "bob"), 5)
 
 
+    def test_an_estate_without_acres(self):
+        # All acres of the hill are parted off; ann holds it still.
+        rows = [("grant", 1, "", "hill", "ann", 60, 12), ("part", 2, "hill", "dale", "bob", 60)]
+        court = Court(100, 1, rows + [("liege", 4, "ann", "")])
+        self.assertEqual(bonds(court, 2), [("ann", "", 0, False), ("bob", "", 60, False)])
+        self.assertEqual((great(court, 2), weight(court, 2, "ann", ""), weight(court, 2, "", "bob")), (61, 0, 60))
+        self.assertEqual(bonds(court, 4), [("ann", "", 0, True), ("bob", "", 60, False)])
+        self.assertEqual((great(court, 4), weight(court, 4, "ann", ""), weight(court, 4, "", "bob")), (61, 61, 60))
+
+
 class Lieges(unittest.TestCase):
     def test_before_the_day_on_it_and_behind(self):
         court = Court(100, 1, EACH_OF_THE_OTHER + [("liege", 5, "bob", "ann"), ("liege", 8, "bob", "")])

@@ -156,6 +156,11 @@ class Shows(unittest.TestCase):
         # Streams of the worth 0 show only a siding that breaks nothing; there is none here.
         for siding in (["ann"], ["", "ann", "dan"]):
             self.assertFalse(self.shows(siding, []))
+        # There is one where all acres of an estate were parted off.
+        court = Court(100, 1, [("grant", 1, "", "hill", "eve", 60, 12), ("part", 2, "hill", "dale", "bob", 60)])
+        self.assertTrue(shows(court, 2, "eve", "bob", ["eve"], []))
+        self.assertFalse(shows(court, 2, "eve", "bob", ["", "eve"], []))
+        self.assertIsNone(worth(court, 2, "eve", "", [("eve", "", 1)]))
 
     def test_liege_bonds(self):
         court = Court(100, 1, ROWS + [("liege", 5, "bob", "ann"), ("liege", 5, "ann", "")])

@@ -99,6 +99,16 @@ class Sides(unittest.TestCase):
         self.assertEqual(held_near(court, 2, "ann", "bob", "", True), ["", "ann"])
         self.assertEqual(held_near(court, 2, "ann", "bob", "cat", False), ["ann"])
 
+    def test_a_bond_of_no_acres(self):
+        rows = [("grant", 1, "", "hill", "ann", 60, 12), ("part", 2, "hill", "dale", "bob", 60), ("liege", 4, "ann", "")]
+        court = Court(100, 1, rows)
+        self.assertEqual((near(court, 2, "", "bob"), far(court, 2, "", "bob")), ([""], ["", "ann"]))
+        self.assertEqual((near(court, 4, "", "bob"), far(court, 4, "", "bob")), (["", "ann"], ["", "ann"]))
+        self.assertEqual([side(court, day, "", "bob", "ann") for day in (2, 4)], ["free", "one"])
+        self.assertEqual((near(court, 2, "ann", ""), far(court, 2, "ann", "")), (["ann"], ["ann"]))
+        self.assertEqual((streams(court, 2, "ann", ""), streams(court, 4, "ann", "")), ([], [("ann", "", 61)]))
+        self.assertEqual((breaks(court, 2, ["ann"]), breaks(court, 4, ["ann"])), ((0, 0), (1, 0)))
+
     def test_two_alone(self):
         court = Court(100, 1, [("grant", 1, "", "hill", "ann", 30, 1)])
         self.assertEqual(near(court, 1, "ann", ""), ["ann"])
